@@ -2,10 +2,15 @@
 package lectern
 
 import (
+	"math"
+
 	"lectern/api"
+	"lectern/compile"
+	"lectern/machine"
 	"lectern/names"
 	"lectern/parse"
 	"lectern/scan"
+	"lectern/tree"
 )
 
 // Room is jobs that take turns.
@@ -13,23 +18,53 @@ type Room struct{}
 
 // Check tells what is wrong first with a text, and where (P3).
 func Check(text string) (api.Errno, int) {
+	_, code, at := read(text)
+	return code, at
+}
+
+// read answers the tree of a text; or else what is wrong first, and where.
+func read(text string) (tree.Program, api.Errno, int) {
 	if len(text) > api.MaxText {
-		return api.ErrLong, 0
+		return tree.Program{}, api.ErrLong, 0
 	}
 	tokens, code, at := scan.Tokens(text)
 	if code != api.OK {
-		return code, at
+		return tree.Program{}, code, at
 	}
 	program, code, at := parse.Program(tokens)
 	if code != api.OK {
-		return code, at
+		return tree.Program{}, code, at
 	}
-	return names.Look(program)
+	code, at = names.Look(program)
+	return program, code, at
 }
 
 // Run runs one (P4).
 func Run(text string, input []int, fuel int) (api.Outcome, api.Errno, int) {
-	return api.Outcome{}, api.OK, 0
+	program, code, at := read(text)
+	if code != api.OK {
+		return api.Outcome{}, code, at
+	}
+	if fuel < 0 || fuel > api.MaxFuel {
+		return api.Outcome{}, api.ErrFuel, 0
+	}
+	values, ok := valuesOf(input)
+	if !ok {
+		return api.Outcome{}, api.ErrInput, 0
+	}
+	return machine.Run(compile.Program(program), values, fuel), api.OK, 0
+}
+
+// valuesOf answers whether all numbers are values, and these.
+func valuesOf(input []int) ([]int32, bool) {
+	values := make([]int32, 0, len(input))
+	for _, number := range input {
+		if number < math.MinInt32 || number > math.MaxInt32 {
+			return nil, false
+		}
+		values = append(values, int32(number))
+	}
+	return values, true
 }
 
 // NewRoom makes a room (P5).
