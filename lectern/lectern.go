@@ -13,9 +13,6 @@ import (
 	"lectern/tree"
 )
 
-// Room is jobs that take turns.
-type Room struct{}
-
 // Check tells what is wrong first with a text, and where (P3).
 func Check(text string) (api.Errno, int) {
 	_, code, at := read(text)
@@ -39,20 +36,30 @@ func read(text string) (tree.Program, api.Errno, int) {
 	return program, code, at
 }
 
-// Run runs one (P4).
+// Run runs one (P4). One turn with all the fuel is enough: when that is used up, the program ends, rather than wait for another turn.
 func Run(text string, input []int, fuel int) (api.Outcome, api.Errno, int) {
-	program, code, at := read(text)
+	work, code, at := prepare(text, input, fuel)
 	if code != api.OK {
 		return api.Outcome{}, code, at
 	}
+	outcome, _ := work.GoOn(fuel)
+	return outcome, api.OK, 0
+}
+
+// prepare answers a machine for a program; or else the error of Run.
+func prepare(text string, input []int, fuel int) (*machine.Machine, api.Errno, int) {
+	program, code, at := read(text)
+	if code != api.OK {
+		return nil, code, at
+	}
 	if fuel < 0 || fuel > api.MaxFuel {
-		return api.Outcome{}, api.ErrFuel, 0
+		return nil, api.ErrFuel, 0
 	}
 	values, ok := valuesOf(input)
 	if !ok {
-		return api.Outcome{}, api.ErrInput, 0
+		return nil, api.ErrInput, 0
 	}
-	return machine.Run(compile.Program(program), values, fuel), api.OK, 0
+	return machine.New(compile.Program(program), values, fuel), api.OK, 0
 }
 
 // valuesOf answers whether all numbers are values, and these.
@@ -66,20 +73,3 @@ func valuesOf(input []int) ([]int32, bool) {
 	}
 	return values, true
 }
-
-// NewRoom makes a room (P5).
-func NewRoom(slice int) (*Room, api.Errno) { return nil, api.OK }
-
-// Submit lays a job into it (P5).
-func (r *Room) Submit(text string, input []int, fuel int) (int, api.Errno, int) {
-	return 0, api.OK, 0
-}
-
-// Tick goes on for some rounds (P5).
-func (r *Room) Tick(rounds int) ([]int, api.Errno) { return nil, api.OK }
-
-// Job tells how one stands (P5).
-func (r *Room) Job(n int) (api.Outcome, int, api.Errno) { return api.Outcome{}, 0, api.OK }
-
-// Drop ends one (P5).
-func (r *Room) Drop(n int) api.Errno { return api.OK }

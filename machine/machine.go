@@ -6,19 +6,25 @@ import (
 	"lectern/code"
 )
 
-// Run answers the outcome of a program over an input, with so much fuel.
-func Run(program code.Program, input []int32, fuel int) api.Outcome {
-	m := &machine{
+// New answers a machine that stands at the start of a program. It goes along the words and the input, and writes into neither.
+func New(program code.Program, input []int32, fuel int) *Machine {
+	return &Machine{
 		words:  program.Words,
 		next:   program.Start,
 		places: make([]int32, program.Places),
 		input:  input,
 		fuel:   fuel,
 	}
-	for !m.over {
+}
+
+// GoOn is a turn: it goes on till the program ends, or has used so many units in this turn and one more is due. It answers the outcome so far, and whether the program has ended. What is written later is laid behind that list, never into it.
+func (m *Machine) GoOn(units int) (api.Outcome, bool) {
+	m.limit = m.outcome.Used + units
+	m.waits = false
+	for !m.over && !m.waits {
 		m.step()
 	}
-	return m.outcome
+	return m.outcome, m.over
 }
 
 // frame is what a call goes back to.
@@ -27,7 +33,8 @@ type frame struct {
 	base int
 }
 
-type machine struct {
+// Machine is a program at work, which may be halted wherever a unit is due.
+type Machine struct {
 	words   []int
 	next    int     // the word that comes next
 	places  []int32 // of the globals
@@ -36,34 +43,36 @@ type machine struct {
 	calls   []frame
 	input   []int32 // what has not been read
 	fuel    int
+	limit   int // what may have been used when this turn is over
 	outcome api.Outcome
 	over    bool
+	waits   bool // for its next turn
 }
 
-func (m *machine) end(how api.Errno) {
+func (m *Machine) end(how api.Errno) {
 	m.outcome.Code = how
 	m.over = true
 }
 
 // part takes the next word: what to do, or a part of that.
-func (m *machine) part() int {
+func (m *Machine) part() int {
 	word := m.words[m.next]
 	m.next++
 	return word
 }
 
-func (m *machine) push(value int32) {
+func (m *Machine) push(value int32) {
 	m.stack = append(m.stack, value)
 }
 
-func (m *machine) pop() int32 {
+func (m *Machine) pop() int32 {
 	last := len(m.stack) - 1
 	value := m.stack[last]
 	m.stack = m.stack[:last]
 	return value
 }
 
-func (m *machine) step() {
+func (m *Machine) step() {
 	switch op := m.part(); op {
 	case code.End:
 		m.end(api.OK)
@@ -110,15 +119,25 @@ func (m *machine) step() {
 	}
 }
 
-func (m *machine) unit() {
-	if m.outcome.Used == m.fuel {
+// unit looks at the fuel ahead of the turn: who has used up both ends.
+func (m *Machine) unit() {
+	switch {
+	case m.outcome.Used == m.fuel:
 		m.end(api.ErrFuel)
-		return
+	case m.outcome.Used == m.limit:
+		m.wait()
+	default:
+		m.outcome.Used++
 	}
-	m.outcome.Used++
 }
 
-func (m *machine) find(first, size int) {
+// wait goes back to the word that told of the unit, as that is still due when the next turn begins.
+func (m *Machine) wait() {
+	m.next--
+	m.waits = true
+}
+
+func (m *Machine) find(first, size int) {
 	index := int(m.pop())
 	if index < 0 || index >= size {
 		m.end(api.ErrIndex)
@@ -127,14 +146,14 @@ func (m *machine) find(first, size int) {
 	m.push(int32(first + index))
 }
 
-func (m *machine) unless(to int) {
+func (m *Machine) unless(to int) {
 	if m.pop() == 0 {
 		m.next = to
 	}
 }
 
 // call lets the frame begin with the arguments, which are on the stack already.
-func (m *machine) call(to, args int) {
+func (m *Machine) call(to, args int) {
 	if len(m.calls) == api.MaxCalls {
 		m.end(api.ErrCalls)
 		return
@@ -144,14 +163,14 @@ func (m *machine) call(to, args int) {
 	m.next = to
 }
 
-func (m *machine) leave() {
+func (m *Machine) leave() {
 	last := len(m.calls) - 1
 	m.stack = m.stack[:m.base]
 	m.next, m.base = m.calls[last].next, m.calls[last].base
 	m.calls = m.calls[:last]
 }
 
-func (m *machine) write(value int32) {
+func (m *Machine) write(value int32) {
 	if len(m.outcome.Out) == api.MaxOut {
 		m.end(api.ErrOut)
 		return
@@ -159,7 +178,7 @@ func (m *machine) write(value int32) {
 	m.outcome.Out = append(m.outcome.Out, int(value))
 }
 
-func (m *machine) read() {
+func (m *Machine) read() {
 	if len(m.input) == 0 {
 		m.end(api.ErrInput)
 		return

@@ -12,13 +12,17 @@ import (
 func wantRun(t *testing.T, program code.Program, input []int32, fuel int, want api.Outcome) {
 	t.Helper()
 	words, numbers := slices.Clone(program.Words), slices.Clone(input)
-	got := Run(program, input, fuel)
-	if got.Code != want.Code || got.Used != want.Used || !slices.Equal(got.Out, want.Out) {
-		t.Errorf("P4: %v over %v with %d: %v, want %v", program, input, fuel, got, want)
+	got, over := New(program, input, fuel).GoOn(fuel)
+	if !same(got, want) || !over {
+		t.Errorf("P4: %v over %v with %d: %v, %v, want %v", program, input, fuel, got, over, want)
 	}
 	if !slices.Equal(program.Words, words) || !slices.Equal(input, numbers) {
 		t.Errorf("P2: %v over %v became %v over %v", words, numbers, program.Words, input)
 	}
+}
+
+func same(a, b api.Outcome) bool {
+	return a.Code == b.Code && a.Used == b.Used && slices.Equal(a.Out, b.Out)
 }
 
 func words(parts ...int) code.Program { return code.Program{Words: parts, Places: 3} }
@@ -93,4 +97,66 @@ func TestCalls(t *testing.T) {
 	program = code.Program{Start: 6, Words: []int{code.Enter, 2, code.Push, 3, code.Write, code.Leave, code.Push, 7, code.Push, 9, code.Call, 0, 1, code.Write, code.End}}
 	wantRun(t, program, nil, 0, done(3, 7))
 	wantRun(t, words(code.Unit, code.Call, 0, 0), nil, 99, api.Outcome{Code: api.ErrCalls, Used: api.MaxCalls + 1})
+}
+
+func wantTurn(t *testing.T, m *Machine, units int, over bool, code api.Errno, used int, out ...int) {
+	t.Helper()
+	want := api.Outcome{Code: code, Used: used, Out: out}
+	if got, gotOver := m.GoOn(units); !same(got, want) || gotOver != over {
+		t.Errorf("P5: a turn of %d: %v, %v, want %v, %v", units, got, gotOver, want, over)
+	}
+}
+
+// TestTurns: what a turn begins goes on up to the next unit, and what has ended stays so.
+func TestTurns(t *testing.T) {
+	three := words(code.Unit, code.Push, 7, code.Write, code.Unit, code.Push, 8, code.Write, code.Unit, code.Push, 9, code.Write, code.End)
+	m := New(three, nil, 9)
+	wantTurn(t, m, 0, false, api.OK, 0)
+	wantTurn(t, m, 1, false, api.OK, 1, 7)
+	wantTurn(t, m, 0, false, api.OK, 1, 7)
+	wantTurn(t, m, 2, true, api.OK, 3, 7, 8, 9)
+	wantTurn(t, m, 2, true, api.OK, 3, 7, 8, 9)
+	wantTurn(t, New(three, nil, 9), 3, true, api.OK, 3, 7, 8, 9)
+	wantTurn(t, New(three, nil, 3), 3, true, api.OK, 3, 7, 8, 9)
+	wantTurn(t, New(words(code.End), nil, 0), 1, true, api.OK, 0)
+}
+
+// TestTurnsAndFuel: where the fuel and a turn are used up both, it ends.
+func TestTurnsAndFuel(t *testing.T) {
+	again := words(code.Unit, code.Jump, 0)
+	m := New(again, nil, 4)
+	wantTurn(t, m, 2, false, api.OK, 2)
+	wantTurn(t, m, 2, true, api.ErrFuel, 4)
+	wantTurn(t, m, 2, true, api.ErrFuel, 4)
+	m = New(again, nil, 5)
+	wantTurn(t, m, 4, false, api.OK, 4)
+	wantTurn(t, m, 4, true, api.ErrFuel, 5)
+	wantTurn(t, New(again, nil, 0), 1, true, api.ErrFuel, 0)
+	wantTurn(t, New(words(code.Unit, code.Push, 0, code.Push, 0, code.Divide), nil, 9), 1, true, api.ErrDiv, 1)
+}
+
+// TestTurnsOfCalls: the frames of calls, the operands that wait, and the input stay from turn to turn.
+func TestTurnsOfCalls(t *testing.T) {
+	body := []int{code.Unit, code.Enter, 1, code.GetLocal, 0, code.Read, code.Add, code.SetLocal, 1, code.Unit, code.LeaveWith, 1}
+	program := code.Program{Start: len(body), Words: slices.Concat(body, []int{code.Push, 5, code.Push, 40, code.Call, 0, 1, code.Subtract, code.Push, 100, code.Call, 0, 1, code.Add, code.Write, code.End})}
+	m := New(program, []int32{2, 3}, 9)
+	for used := range 4 {
+		wantTurn(t, m, min(used, 1), false, api.OK, used)
+	}
+	wantTurn(t, m, 1, true, api.OK, 4, 5-42+103)
+}
+
+// TestTurnsLeaveLists: a list that a turn answered stays as it is when more is written.
+func TestTurnsLeaveLists(t *testing.T) {
+	m := New(words(code.Unit, code.Read, code.Write, code.Jump, 0), []int32{1, 2, 3, 4, 5, 6}, 99)
+	var told []api.Outcome
+	for range 6 {
+		outcome, _ := m.GoOn(1)
+		told = append(told, outcome)
+	}
+	for i, outcome := range told {
+		if !slices.Equal(outcome.Out, []int{1, 2, 3, 4, 5, 6}[:i+1]) {
+			t.Errorf("P2: the list of turn %d became %v", i+1, outcome.Out)
+		}
+	}
 }

@@ -6,7 +6,7 @@ import (
 )
 
 // operate works out what has operands alone. Values of 32 bits wrap round as the sums of the program do.
-func (m *machine) operate(op int) {
+func (m *Machine) operate(op int) {
 	switch op {
 	case code.Negate:
 		m.push(-m.pop())
@@ -21,7 +21,7 @@ func (m *machine) operate(op int) {
 	}
 }
 
-func (m *machine) join(op int, left, right int32) {
+func (m *Machine) join(op int, left, right int32) {
 	switch op {
 	case code.Add:
 		m.push(left + right)
@@ -43,7 +43,7 @@ func (m *machine) join(op int, left, right int32) {
 }
 
 // divide needs no case for the least value and -1: the language cuts their quotient to the least value, and leaves 0.
-func (m *machine) divide(op int, left, right int32) {
+func (m *Machine) divide(op int, left, right int32) {
 	switch {
 	case right == 0:
 		m.end(api.ErrDiv)
